@@ -21,6 +21,7 @@ func of(t *testing.T, l ...api.Wait) *wait.Queue {
 	q := wait.New()
 	for i, w := range l {
 		pushed(t, q, w, i+1)
+		goesOn(t)
 	}
 	return q
 }
@@ -53,7 +54,7 @@ func holds(t *testing.T, what string, q *wait.Queue, want []api.Wait) {
 	}
 	for _, w := range want {
 		if !q.Has(w.Task) {
-			t.Errorf("%s: Has(%d) of %v: false", what, w.Task, want)
+			t.Fatalf("%s: Has(%d) of %v: false", what, w.Task, want)
 		}
 	}
 }
@@ -90,12 +91,21 @@ func taken(t *testing.T, q *wait.Queue, task, kase int, want api.Wait, ok bool) 
 	}
 }
 
+// goesOn ends a test that has failed: a long loop would tell the same over and over.
+func goesOn(t *testing.T) {
+	t.Helper()
+	if t.Failed() {
+		t.FailNow()
+	}
+}
+
 // emptied pops all that a queue should have, and then finds none, and that it can be used on.
 func emptied(t *testing.T, what string, q *wait.Queue, want []api.Wait) {
 	t.Helper()
 	for i, w := range want {
 		holds(t, what, q, want[i:])
 		popped(t, q, w, true)
+		goesOn(t)
 	}
 	for range 2 {
 		popped(t, q, api.Wait{}, false)
@@ -137,6 +147,7 @@ func TestP6_1PushTellsHowMany(t *testing.T) {
 		want = append(want, w)
 		pushed(t, q, w, i+1)
 		holds(t, "pushed", q, want)
+		goesOn(t)
 	}
 	popped(t, q, want[0], true)
 	pushed(t, q, one(1, 1, 1), 500)
@@ -260,6 +271,7 @@ func TestP6_1AllNumbersMayBe(t *testing.T) {
 		taken(t, q, w.Task, w.Case, w, true)
 		left = slices.DeleteFunc(left, func(o api.Wait) bool { return o == w })
 		holds(t, "taken", q, left)
+		goesOn(t)
 	}
 	q = of(t, l...)
 	for i, task := range numbers {
@@ -271,6 +283,7 @@ func TestP6_1AllNumbersMayBe(t *testing.T) {
 			t.Errorf("Has(%d) of one that is gone", task)
 		}
 		holds(t, "removed", q, l[(i+1)*len(numbers):])
+		goesOn(t)
 	}
 }
 
@@ -452,6 +465,7 @@ func TestP6_2Many(t *testing.T) {
 	q := wait.New()
 	for i := range n {
 		pushed(t, q, one(i%2, 0, i), i+1)
+		goesOn(t)
 	}
 	removed(t, q, 1, n/2)
 	for i, w := range q.All() {
@@ -461,6 +475,7 @@ func TestP6_2Many(t *testing.T) {
 	}
 	for i := range n / 2 {
 		popped(t, q, one(0, 0, 2*i), true)
+		goesOn(t)
 	}
 	emptied(t, "many", q, nil)
 }
